@@ -1,0 +1,1 @@
+"""Countedonce: a batch engine whose answers are the plain ones, whatever falls."""
