@@ -33,12 +33,6 @@ def kind_of(told, kinds):
     return "int"
 
 
-def check_unlike(name, words):
-    """Raise BadJob for a step that tells a word twice."""
-    if len(set(words)) != len(words):
-        raise BadJob(name, "twice")
-
-
 def check_there(name, words, kinds):
     """Raise BadJob for a step that tells a column which isn't there."""
     for word in words:
@@ -46,15 +40,17 @@ def check_there(name, words, kinds):
             raise BadJob(name, "column")
 
 
-def check_unlike_columns(name, columns):
-    """The columns, if no two of them have one name."""
-    check_unlike(name, [column for column, _ in columns])
-    return columns
+def unlike_columns(name, columns):
+    """The columns as a tuple; raises BadJob if two of them have one name, as two keys that are alike have."""
+    words = [column for column, _ in columns]
+    if len(set(words)) != len(words):
+        raise BadJob(name, "two columns of one name")
+    return tuple(columns)
 
 
 def columns_of_read(name, given, details):
     """The columns of a read."""
-    return check_unlike_columns(name, details)
+    return unlike_columns(name, details)
 
 
 def columns_of_filter(name, given, details):
@@ -73,7 +69,7 @@ def columns_of_map(name, given, details):
         if kind is None:
             raise BadJob(name, "expression")
         columns.append((column, kind))
-    return check_unlike_columns(name, tuple(columns))
+    return unlike_columns(name, columns)
 
 
 def kind_of_fold(name, fold, told, kinds):
@@ -96,7 +92,7 @@ def columns_of_fold(name, given, details):
     columns = [(key, kinds[key]) for key in keys]
     for fold, told, column in folds:
         columns.append((column, kind_of_fold(name, fold, told, kinds)))
-    return check_unlike_columns(name, tuple(columns))
+    return unlike_columns(name, columns)
 
 
 def columns_of_join(name, given, details):
@@ -104,7 +100,6 @@ def columns_of_join(name, given, details):
     ones, others = given
     one_kinds = dict(ones)
     other_kinds = dict(others)
-    check_unlike(name, details)
     check_there(name, details, one_kinds)
     check_there(name, details, other_kinds)
     for key in details:
@@ -113,7 +108,7 @@ def columns_of_join(name, given, details):
     columns = [(key, one_kinds[key]) for key in details]
     columns.extend([pair for pair in ones if pair[0] not in details])
     columns.extend([pair for pair in others if pair[0] not in details])
-    return check_unlike_columns(name, tuple(columns))
+    return unlike_columns(name, columns)
 
 
 def columns_of_union(name, given, details):

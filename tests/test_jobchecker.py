@@ -96,7 +96,8 @@ class Wrong(unittest.TestCase):
                       "c = fold a: sum(z) as n", "c = fold a: least(z) as n", "c = fold a: unlike(z) as n",
                       "c = join a, b by x", "c = join a, b by z", "c = join a, b by q", "c = join b, a by t, x",
                       "c = sort a by z up first 1", "c = sort b by t up, x down first 1",
-                      "c = filter a where x or 1 + (0 * -q)")
+                      "c = filter a where x or 1 + (0 * -q)", "c = filter a where q = r", "c = filter a where q = q",
+                      "c = map a to q < r as x", "c = map a to not q as x", "c = filter a where length(q) = 1")
 
     def test_kinds(self):
         self.is_wrong("c = filter a where x = t", "c = filter a where t < 1", "c = filter a where \"q\" != 1",

@@ -66,6 +66,19 @@ class Pieces(unittest.TestCase):
         self.assertEqual(column("a = \"b\" + \""), 11)
         self.assertEqual(column("\"a\" \"b\""), 5)
 
+    def test_quoted_texts_are_no_signs_and_no_own_words(self):
+        for inner in ("(", "-", "not", "length", ")", "a", "0", "=", "mod"):
+            self.assertEqual(told("\"" + inner + "\""), ("quoted", inner))
+            self.assertEqual(told("\"" + inner + "\" + b"), ("two", "+", ("quoted", inner), B))
+            self.assertEqual(column("a \"" + inner + "\" b"), 3)
+        self.assertEqual(place("\"read\" a(x int)"), (1, 1))
+        self.assertEqual(place("\"answer\" a"), (1, 1))
+        self.assertEqual(place("b = \"unlike\" a"), (1, 5))
+        self.assertEqual(place("b = map a to x \"as\" y"), (1, 16))
+        self.assertEqual(place("read a(x \"int\")"), (1, 10))
+        self.assertEqual(place("read \"a\"(x int)"), (1, 6))
+        self.assertEqual(place("b = sort a by x up first \"5\""), (1, 26))
+
     def test_signs_the_longest_one_counts(self):
         for sign in ("!=", "<=", ">=", "=", "<", ">", "+", "-", "*", "/"):
             self.assertEqual(told("a" + sign + "b"), ("two", sign, A, B))
@@ -117,6 +130,9 @@ class Pieces(unittest.TestCase):
         mapped = "m = map c to " + ", ".join(["((a))"] * 148)
         self.assertEqual(read_job(mapped + "\nanswer m")[0][0][3], ((("column", "a"), "a"),) * 148)
         self.assertEqual(place(mapped + ", b\nanswer m"), (1, len(mapped) + 1))
+        mapped = "m = map c to " + ", ".join(["\"(\" as x"] * 74)
+        self.assertIsNone(place(mapped + "\nanswer m"))
+        self.assertEqual(place(mapped + ", x\nanswer m"), (1, len(mapped) + 1))
 
     def test_a_line_is_cut_ahead_of_all_else(self):
         self.assertEqual(place(") a % b"), (1, 5))

@@ -227,6 +227,13 @@ class Improved(unittest.TestCase):
             self.assertEqual(meaning(better, data), clerk.told(told, data, columns))
         self.assertGreater(some, 50)
 
+    def test_at_most_60_rows(self):
+        lines = ["u0 = union a, a"] + ["u{1} = union u{0}, u{0}".format(n, n + 1) for n in range(24)]
+        told = job("\n".join(lines) + "\nc = filter u24 where x > 1")
+        paper = improved(told)
+        self.assertEqual(len(paper), 60)
+        self.assertEqual(meaning(judged(told, paper), {}), [])
+
     def test_long_jobs(self):
         steps = ["u0 = union a, a"]
         for n in range(1, 28):

@@ -121,6 +121,7 @@ class Steps(unittest.TestCase):
         self.assertEqual(meaning(job, {"b": OTHERS}), [])
         self.assertEqual(meaning(job, {}), [])
         self.assertEqual(meaning(job, {"a": ROWS, "z": 5}), [(6,)])
+        self.assertEqual(meaning(job, {"a": ROWS, "c": 5, "d": [(7,)]}), [(6,)])
 
 
 class Bags(unittest.TestCase):

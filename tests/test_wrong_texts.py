@@ -190,6 +190,12 @@ class Large(unittest.TestCase):
             text = head + ahead * 40 + "x" + inner * 40
             self.assertEqual(place(text + "\nanswer b"), (1, len(text) + 1), text)
 
+    def test_other_parts_are_not_measured(self):
+        head = "b = filter a where "
+        for text in ("x or " + sums(81) + " or x", "- " * 41 + "x * x + x", "x and not x = " + sums(83) + " and x"):
+            self.assertEqual(place(head + text + "\nanswer b"), (1, len(head + text) + 1), text)
+            self.assertEqual(place(head + text + ")\nanswer b"), (1, len(head + text) + 1), text)
+
     def test_brackets_are_no_expressions(self):
         self.assertIsNone(place("b = filter a where " + "(" * 99 + "x" + ")" * 99 + "\nanswer b"))
         self.assertIsNone(place("b = filter a where " + "((((x)))) + " * 39 + "(x)" + "\nanswer b"))
