@@ -14,7 +14,7 @@ def values_at(row, ats):
     return tuple([row[at] for at in ats])
 
 
-def places_told(names, places):
+def ats_of(names, places):
     """The places of some columns."""
     return [places[name] for name in names]
 
@@ -47,7 +47,7 @@ def with_row(states, folds, places, row):
 def states_by_key(rows, details, places):
     """The dict from the keys of rows to the lists of their folds' states."""
     keys, folds = details
-    ats = places_told(keys, places)
+    ats = ats_of(keys, places)
     found = {}
     for row in rows:
         key = values_at(row, ats)
@@ -81,10 +81,10 @@ def rest_places(keys, places):
 
 def joined(ones, others, keys, one_places, other_places):
     """The rows of a join."""
-    one_ats = places_told(keys, one_places)
+    one_ats = ats_of(keys, one_places)
     one_rest = rest_places(keys, one_places)
     other_rest = rest_places(keys, other_places)
-    found = rows_by_key(others, places_told(keys, other_places))
+    found = rows_by_key(others, ats_of(keys, other_places))
     rows = []
     for row in ones:
         key = values_at(row, one_ats)
@@ -98,21 +98,34 @@ def unlike_rows(rows):
     return sorted(set(rows))
 
 
-def ordered_at(rows, at, way):
-    """Rows sorted by the value at a place, those with equal ones left in their order."""
-    if way == "down":
-        return sorted(rows, key=lambda row: row[at], reverse=True)
-    return sorted(rows, key=lambda row: row[at])
+def place_down(value):
+    """A thing that stands the further ahead, the further behind a value stands."""
+    if isinstance(value, str):
+        # The 1 stands behind all that is none above 0: a text comes behind those that begin with it.
+        return tuple([-ord(sign) for sign in value] + [1])
+    return -value
+
+
+def row_place(row, order, places):
+    """A thing that stands where a row stands in the order of a sort."""
+    told = []
+    for name, way in order:
+        value = row[places[name]]
+        if way == "down":
+            value = place_down(value)
+        told.append(value)
+    return tuple(told)
+
+
+def with_places(rows, order, places):
+    """Pairs of rows' places in the order of a sort and the rows: sorted, they stand in that order."""
+    return [(row_place(row, order, places), row) for row in rows]
 
 
 def first_rows(rows, details, places):
     """The first so many rows, sorted by some columns, and then by the whole row."""
     order, many = details
-    rows = sorted(rows)
-    # The column that counts first is sorted last, as each sorting leaves equal rows in their order.
-    for name, way in reversed(order):
-        rows = ordered_at(rows, places[name], way)
-    return rows[:many]
+    return [row for _, row in sorted(with_places(rows, order, places))[:many]]
 
 
 def step_rows(what, details, lists, columns):

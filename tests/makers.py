@@ -146,3 +146,27 @@ def rows(rng, columns, most=6):
 
 def data(rng, made):
     return {name: rows(rng, columns) for name, what, _, columns in made[0] if what == "read"}
+
+
+def keys_of(told, columns, step):
+    """The keys of a fold's rows; told are the rows of all steps, as dicts."""
+    return sorted({tuple([row[key] for key in step[3][0]]) for row in told[step[2][0]]})
+
+
+def hows(rng, made, told, columns):
+    """How some joins and folds of a job may be worked."""
+    found = {}
+    for step in made[0]:
+        if step[1] == "join" and rng.random() < 0.5:
+            found[step[0]] = ()
+        if step[1] == "fold" and rng.random() < 0.6:
+            keys = keys_of(told, columns, step)
+            hot = rng.sample(keys, min(len(keys), rng.randint(0, 3)))
+            found[step[0]] = tuple(rng.sample(hot + [(1, "no", 3, "key"), ("p", 5)], len(hot) + 2))
+    return found
+
+
+def choice(rng, made, told, columns):
+    """What else a plan is made of: cuts, pieces, is_ahead, hows."""
+    cuts = {name: rng.choice((1, 2, 3, 9)) for name in [step[0] for step in made[0]] if rng.random() < 0.7}
+    return cuts, rng.choice((1, 2, 3, 5)), rng.random() < 0.5, hows(rng, made, told, columns)

@@ -19,6 +19,22 @@ NAMES = {
     "meaning": ("meaning",),
     "rules": ("applied",),
     "judge": ("judged", "improved"),
+    "keysums": ("key_sum",),
+    "plans": ("plan_of", "tasks_of", "files_of", "inputs_of", "answer_files", "needed_tasks"),
+    "blocks": ("cut_rows", "blocks_of", "homes_of", "block_files", "block_of"),
+    "tasks": ("task_rows", "all_files", "answer_of", "plain_answer"),
+    "sorting": ("sorted_in_runs", "rounds_for"),
+    "smalltasks": ("task_rows_small",),
+    "skew": ("hot_keys", "fold_in_two", "most_in_piece"),
+    "machines": ("Machine",),
+    "scheduling": ("places_told", "wanted_tasks", "ready_tasks", "lost_blocks", "orders_for"),
+    "middle": ("Middle",),
+}
+METHODS = {
+    "Machine": {
+        "fall": [], "burn": [], "rise": [], "whole": ["file"], "whole_files": [], "has_task": ["plan", "task"],
+        "ready": [], "letter": ["plan", "told"], "step": ["plan", "torn"]},
+    "Middle": {"begin": ["is_torn"], "fall": [], "letter": ["told"], "think": []},
 }
 
 PARAMETERS = {
@@ -27,6 +43,17 @@ PARAMETERS = {
     "are_rows": ["thing", "columns"], "job_text": ["job"], "no_state": ["kind"], "one_state": ["kind", "value"],
     "put_together": ["kind", "one", "other"], "state_told": ["kind", "state"], "meaning": ["job", "data"],
     "applied": ["job", "rule", "name"], "judged": ["job", "paper"], "improved": ["job"],
+    "key_sum": ["key"], "plan_of": ["job", "cuts", "pieces", "is_ahead", "hows"], "tasks_of": ["plan"],
+    "files_of": ["plan", "task"], "inputs_of": ["plan", "task"], "answer_files": ["plan"], "needed_tasks": ["plan"],
+    "cut_rows": ["rows", "many"], "blocks_of": ["data", "cuts"], "homes_of": ["number", "copies", "machines"],
+    "block_files": ["plan"], "block_of": ["plan", "file"], "task_rows": ["plan", "task", "lists"],
+    "all_files": ["plan", "blocks"], "answer_of": ["plan", "files"], "plain_answer": ["plan", "blocks"],
+    "sorted_in_runs": ["rows", "at", "memory", "width"], "rounds_for": ["many", "memory", "width"],
+    "task_rows_small": ["plan", "task", "lists", "memory", "width"], "hot_keys": ["rows", "keys", "names", "most"],
+    "fold_in_two": ["rows", "details", "names", "hot", "pieces"],
+    "most_in_piece": ["rows", "keys", "names", "hot", "pieces"], "Machine": ["number"], "places_told": ["told"],
+    "wanted_tasks": ["plan", "places"], "ready_tasks": ["plan", "places"], "lost_blocks": ["plan", "places"],
+    "orders_for": ["plan", "told", "ages", "patience"], "Middle": ["plan", "machines", "patience"],
 }
 
 EXAMPLES = r"""
@@ -59,6 +86,45 @@ True
 >>> better = judged(late, (("past map", "c"), ("drop", "b")))
 >>> [step[1] for step in better[0]], meaning(better, {"a": [(1,), (5,)]}), meaning(judged(late, improved(late)), {"a": [(1,), (5,)]})
 (['read', 'filter', 'map'], [(6,)], [(6,)])
+
+>>> key_sum((1, "a")) == key_sum((1, "a")), key_sum(()) >= 0
+(True, True)
+
+>>> plan = plan_of(job, {"a": 2}, 3, True)
+>>> len(answer_files(plan)) > 0, inputs_of(plan, tasks_of(plan)[0]), needed_tasks(plan) == sorted(needed_tasks(plan)), files_of(plan, tasks_of(plan)[0])[0][:2] == tasks_of(plan)[0]
+(True, [], True, True)
+
+>>> cut_rows([(1,), (2,), (3,)], 2), homes_of(4, 2, 3), [block_of(plan, file) for file in block_files(plan)]
+([((1,), (2,)), ((3,),)], (1, 2), [('a', 0), ('a', 1)])
+
+>>> blocks = blocks_of(data, {"a": 2})
+>>> plain_answer(plan, blocks), answer_of(plan, all_files(plan, blocks)) == meaning(job, data)
+([('p', 2, 11), ('q', 2, 8)], True)
+
+>>> sorted_in_runs([(3,), (1,), (2,), (5,), (4,)], 0, 2, 2), rounds_for(100, 3, 4)
+(([(1,), (2,), (3,), (4,), (5,)], 2, 2), 3)
+
+>>> files = all_files(plan, blocks)
+>>> task = tasks_of(plan)[-1]
+>>> lists = [files[file] for file in inputs_of(plan, task)]
+>>> task_rows_small(plan, task, lists, 1, 2) == task_rows(plan, task, lists)
+True
+
+>>> rows = [("p", 1)] * 6 + [("q", 4)]
+>>> details = (("t",), (("sum", ("column", "x"), "s"),))
+>>> hot_keys(rows, ("t",), ("t", "x"), 3), fold_in_two(rows, details, ("t", "x"), [("p",)], 3), most_in_piece(rows, ("t",), ("t", "x"), [("p",), ("q",)], 3)
+([('p',)], [('p', 6), ('q', 4)], 3)
+
+>>> machine = Machine(2)
+>>> machine.letter(plan, ("ask", 2, (0, 0, 0), 1)), machine.letter(plan, ("tell", 2, (1, 4))), machine.is_up, machine.worked
+([('lack', 1, (0, 0, 0))], [('told', -1, (1, 4), 2, (), ())], True, 0)
+
+>>> places_told({1: (((0, 0, 0),), ()), 0: (((0, 0, 0), (0, 1, 0)), ())}), len(lost_blocks(plan, {})), orders_for(plan, {}, {}, 1)
+({(0, 0, 0): (0, 1), (0, 1, 0): (0,)}, 2, [])
+
+>>> middle = Middle(plan, 2, 1)
+>>> middle.begin(True), middle.begin(False), middle.turn, middle.think(), middle.journal
+(None, None, (2, 0), [('tell', 0, (2, 1)), ('tell', 1, (2, 1))], [False, True])
 """
 
 
@@ -71,7 +137,7 @@ class Interface(unittest.TestCase):
         known = {name: getattr(module(file), name) for file, names in NAMES.items() for name in names}
         test = doctest.DocTestParser().get_doctest(EXAMPLES, known, "DOC.md", None, 0)
         result = doctest.DocTestRunner(verbose=False).run(test)
-        self.assertEqual((result.failed, result.attempted), (0, 14))
+        self.assertEqual((result.failed, result.attempted), (0, 33))
 
     def test_each_name_is_defined_in_its_file(self):
         for file, names in NAMES.items():
@@ -87,6 +153,17 @@ class Interface(unittest.TestCase):
                 if name in PARAMETERS:
                     got = list(inspect.signature(getattr(module(file), name)).parameters)
                     self.assertEqual(got, PARAMETERS[name])
+
+    def test_methods_are_defined_in_their_class(self):
+        for file, names in NAMES.items():
+            for name in names:
+                told = getattr(module(file), name)
+                for method, parameters in METHODS.get(name, {}).items():
+                    self.assertIn(method, vars(told))
+                    self.assertEqual(list(inspect.signature(vars(told)[method]).parameters), ["self"] + parameters)
+
+    def test_hows_may_lack(self):
+        self.assertIsNone(inspect.signature(module("plans").plan_of).parameters["hows"].default)
 
     def test_errors(self):
         errors = module("errors")

@@ -22,6 +22,11 @@ BUILTINS = (
 METHODS = (
     "append count endswith extend find get index insert items join keys pop remove replace setdefault split startswith "
     "strip update values").split()
+LIBRARY = {"heapq": ("heappush", "heappop")}
+# What attributes may not be called, beside the names of methods of Python's own values.
+BARRED_ATTRIBUTES = (
+    "items keys values pop update append clear extend insert remove reverse setdefault sort args encode decode hex "
+    "fromhex format as_integer_ratio bit_count conjugate from_bytes is_integer to_bytes").split()
 # Doctests set one called "_".
 OF_PYTHON = [name for name in dir(builtins) if name != "_"]
 BARRED = (
@@ -96,11 +101,16 @@ class Language(unittest.TestCase):
         known = {"countedonce." + name[:-3]: tree for name, tree in trees()}
         for name, tree in trees():
             for module, word in imported(tree):
-                self.assertIn(word, top_names(known[module]), (name, module))
+                if module in LIBRARY:
+                    self.assertIn(word, LIBRARY[module], name)
+                    self.assertNotIn(word, bound(tree), name)
+                else:
+                    self.assertIn(word, top_names(known[module]), (name, module))
             self.assertFalse([alias for node in nodes(tree, ast.ImportFrom) for alias in node.names if alias.asname])
 
     def test_no_two_files_import_from_each_other(self):
-        behind = {"countedonce." + name[:-3]: {module for module, _ in imported(tree)} for name, tree in trees()}
+        behind = {"countedonce." + name[:-3]: {module for module, _ in imported(tree) if module not in LIBRARY}
+                  for name, tree in trees()}
         while behind:
             free = [name for name, needs in behind.items() if not needs & set(behind)]
             self.assertTrue(free, sorted(behind))
@@ -129,6 +139,19 @@ class Language(unittest.TestCase):
                 self.assertNotIn(word, OF_PYTHON, name)
             for node in nodes(tree, ast.Attribute):
                 self.assertNotIn(node.attr, BARRED, name)
+
+    def test_attributes(self):
+        for name, tree in trees():
+            for made in nodes(tree, ast.ClassDef):
+                methods = [node.name for node in made.body if isinstance(node, ast.FunctionDef)]
+                self.assertEqual(len(set(methods)), len(methods), name)
+                for node in nodes(made, ast.Attribute):
+                    if isinstance(node.ctx, ast.Store):
+                        self.assertNotIn(node.attr, methods + BARRED_ATTRIBUTES, name)
+            for method in [node for made in nodes(tree, ast.ClassDef) for node in made.body
+                           if isinstance(node, ast.FunctionDef) and node.name != "__init__"]:
+                for value in ("", 0, [], {}, set(), b"", ()):
+                    self.assertFalse(hasattr(value, method.name), (name, method.name))
 
     def test_words_and_strings(self):
         for name, tree in trees():
