@@ -74,9 +74,7 @@ class Middle:
         for task, machine, is_new in orders_for(self.plan, self.told, self.ages, self.patience):
             told = tuple([(file, places[file]) for file in inputs_of(self.plan, task)])
             letters.append(("work", machine, self.turn, task, told))
-            if is_new:
-                ages[task] = 0
-            elif task not in ages:
-                ages[task] = self.ages.get(task, 0) + 1
+            # Of a task's orders a new one stands last.
+            ages[task] = 0 if is_new else self.ages.get(task, 0) + 1
         self.ages = ages
         return letters

@@ -140,6 +140,21 @@ class Tasks(unittest.TestCase):
                     open_ones.extend([writer[file] for file in inputs_of(plan, task)])
             self.assertEqual(needed_tasks(plan), sorted(found))
 
+    def test_blocks_apart_all_tasks_are_needed(self):
+        job = read_job(HEAD + "d = join a, b by t\ne = filter d where z\nc = unlike a\nf = fold c: count() as n\nanswer c")
+        plan = plan_of(job, {"a": 2}, 2, True, {"d": ()})
+        self.assertEqual([task for task in tasks_of(plan) if task not in needed_tasks(plan)],
+                         [file[:2] for file in block_files(plan)[2:]])
+        for plan in every_plan():
+            left = [task for task in tasks_of(plan) if task not in needed_tasks(plan)]
+            self.assertTrue(all([inputs_of(plan, task) == [] for task in left]))
+
+    def test_a_fold_without_hot_keys_has_fewer_phases(self):
+        job = job_of("fold")
+        cold = plan_of(job, {"a": 2}, 3, True)
+        hot = plan_of(job, {"a": 2}, 3, True, {"c": (("p",),)})
+        self.assertEqual((len(needed_tasks(cold)), len(needed_tasks(hot))), (2 + 2 + 3, 2 + 2 + 3 + 3))
+
     def test_a_read_or_a_step_behind_the_answer_is_not_needed(self):
         job = read_job(HEAD + "d = join a, b by t\nanswer a")
         plan = plan_of(job, {"a": 3, "b": 2}, 2, True)

@@ -99,6 +99,24 @@ class Most(unittest.TestCase):
                     many[key_sum(row[:1]) % pieces] += 1
             self.assertEqual(most_in_piece(tuple(ROWS), ("t",), NAMES, [("q",), ("p",)], pieces), max(many))
 
+    def test_random_rows(self):
+        for seed in range(300):
+            rng = makers.source(seed)
+            rows = [(rng.choice("pqrs"), rng.randint(0, 3)) for _ in range(rng.randint(0, 20))]
+            keys = rng.choice((("t",), ("x", "t"), ("x",)))
+            names = ("t", "x")
+            of_row = [tuple([row[names.index(key)] for key in keys]) for row in rows]
+            hot = hot_keys(rows, keys, names, rng.randint(0, 4))
+            many = [0] * rng.randint(1, 7)
+            turn = 0
+            for key in of_row:
+                if key in hot:
+                    many[turn % len(many)] += 1
+                    turn += 1
+                else:
+                    many[key_sum(key) % len(many)] += 1
+            self.assertEqual(most_in_piece(rows, keys, names, hot, len(many)), max(many))
+
     def test_one_piece_and_no_rows(self):
         self.assertEqual(most_in_piece(ROWS, ("t",), NAMES, [("p",)], 1), 8)
         self.assertEqual(most_in_piece([], ("t",), NAMES, [("p",)], 3), 0)

@@ -64,6 +64,8 @@ class Sorting(unittest.TestCase):
         self.assertEqual(sorted_in_runs(rows, 0, 12, 2)[2], 12)
         self.assertEqual(sorted_in_runs(rows, 0, 50, 2)[2], 12)
         self.assertEqual(sorted_in_runs(rows, 0, 3, 9)[2], 4)
+        self.assertEqual(sorted_in_runs(rows[:9], 0, 4, 2)[1:], (2, 4))
+        self.assertEqual(sorted_in_runs(rows[:9], 0, 8, 2)[1:], (1, 8))
 
     def test_no_room(self):
         for rows in ([], [(1,)], [(2,), (1,)]):

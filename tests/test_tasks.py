@@ -35,6 +35,10 @@ class Tasks(unittest.TestCase):
                     self.assertEqual(task_rows(plan, task, tuple(as_lists)), told)
                     self.assertEqual(told, tuple([files[file] for file in files_of(plan, task)]))
 
+    def test_a_block_reads_nothing_and_tells_nothing(self):
+        plan = plan_of(job_of("fold"), {"a": 2}, 2, True)
+        self.assertEqual(task_rows(plan, tasks_of(plan)[0], []), ((),))
+
     def test_rows_are_not_those_that_were_passed(self):
         job = job_of("union")
         plan = plan_of(job, {}, 1, True)
@@ -117,18 +121,17 @@ class Plain(unittest.TestCase):
 
     def test_hot_keys_are_spread_over_all_pieces(self):
         job = job_of("fold")
-        rows = [(number, "p") for number in range(60)] + [(1, "q"), (2, "r")]
-        cuts = {"a": 3}
-        blocks = blocks_of({"a": rows, "b": []}, cuts)
-        most = {}
-        for hows in (None, {"c": (("p",),)}):
-            plan = plan_of(job, cuts, 5, False, hows)
-            files = all_files(plan, blocks)
-            many = [sum(len(files[file]) for file in inputs_of(plan, task)) for task in tasks_of(plan)]
-            most[hows is None] = max(many)
-            self.assertEqual(plain_answer(plan, blocks), answer(job, {"a": rows, "b": []}))
-        self.assertGreaterEqual(most[True], 60)
-        self.assertLessEqual(most[False], 22)
+        rows = [(number, "p") for number in range(60)]
+        for parts in (1, 3):
+            blocks = blocks_of({"a": rows}, {"a": parts})
+            for hows, want in ((None, 60), ({"c": (("p",),)}, 12), ({"c": (("q",),)}, 60)):
+                plan = plan_of(job, {"a": parts}, 5, False, hows)
+                files = all_files(plan, blocks)
+                cut = [task for task in tasks_of(plan) if set(inputs_of(plan, task)) <= set(block_files(plan))]
+                many = [sum(len(files[file]) for file in inputs_of(plan, task)) for task in tasks_of(plan)
+                        if inputs_of(plan, task) and task not in cut]
+                self.assertEqual(max(many), want)
+                self.assertEqual(plain_answer(plan, blocks), answer(job, {"a": rows, "b": []}))
 
     def test_states_of_hot_keys_made_ahead_are_spread_as_well(self):
         job = job_of("fold")
