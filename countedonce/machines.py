@@ -100,7 +100,8 @@ class Machine:
 
     def begin_work(self, plan, task, places):
         """Begin a task, or go on with it; returns the letters that ask for what is not here."""
-        if self.has_task(plan, task):
+        # A block is never worked: its rows hang on no files.
+        if self.has_task(plan, task) or not inputs_of(plan, task):
             return []
         work = self.work_on(plan, task)
         for file in work.wants:

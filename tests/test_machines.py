@@ -138,6 +138,12 @@ class Letters(unittest.TestCase):
         self.assertEqual(machine.letter(PLAN, work_letter(CUT, (0, 1))), [])
         self.assertEqual(machine.works, [])
 
+    def test_blocks_are_never_worked(self):
+        machine = Machine(2)
+        self.assertEqual(machine.letter(PLAN, ("work", 2, (1, 1), SOURCE[:2], ())), [])
+        machine.step(PLAN, None)
+        self.assertEqual(seen(machine), (True, {}, [], 0))
+
     def test_new_work(self):
         machine = machine_with(TWO)
         self.assertEqual(machine.letter(PLAN, work_letter(CUT, (2, 1, 0))), [("ask", 1, SOURCE, 2)])
@@ -241,13 +247,19 @@ class Letters(unittest.TestCase):
         machine.step(NEAR, None)
         self.assertEqual(machine.disk, {file: (len(files[file]), files[file]) for file in files_of(NEAR, task)})
 
-    def test_letters_are_not_changed(self):
+    def test_letters_and_plans_are_not_changed(self):
         machine = Machine(2)
+        plan = copy.deepcopy(PLAN)
         for letter in (work_letter(FOLD, (0, 1), (3, 4), (5,)), ("lack", 2, ONE), give(ONE), ("ask", 2, ONE, 1),
                        ("tell", 2, (1, 2)), work_letter(FOLD, (0, 1), (3, 4), (5,))):
             kept = copy.deepcopy(letter)
             machine.letter(PLAN, letter)
             self.assertEqual(letter, kept)
+        machine.letter(PLAN, give(TWO))
+        machine.letter(PLAN, give(THREE))
+        machine.step(PLAN, None)
+        self.assertEqual(machine.worked, 1)
+        self.assertEqual(PLAN, plan)
 
 
 class Steps(unittest.TestCase):
