@@ -30,6 +30,15 @@ def block_files(plan):
     return sorted(plan["blocks"])
 
 
+def block_counts(plan):
+    """The dict from the read tables, in the order of the job's reads, to how many blocks they are cut into."""
+    counts = {}
+    for file in block_files(plan):
+        name = block_of(plan, file)[0]
+        counts[name] = counts.get(name, 0) + 1
+    return counts
+
+
 def block_of(plan, file):
     """The read table and the number of a block, or None for a file of another task."""
     return plan["blocks"].get(file)

@@ -123,19 +123,20 @@ READERS = {
     "unlike": read_unlike, "sort": read_sort}
 
 
-def read_table(line):
-    """A step that reads a table, behind its first word."""
+def read_table_head(line):
+    """The name and the columns of a table."""
     name = line.take("name")
     line.expect("(")
     columns = read_list(line, read_column)
     line.expect(")")
-    return (name, "read", (), columns)
+    return name, columns
 
 
 def read_step(line):
     """The step that a line tells."""
     if line.took("read"):
-        return read_table(line)
+        name, columns = read_table_head(line)
+        return (name, "read", (), columns)
     name = line.take("name")
     line.expect("=")
     what = line.take_one_of(list(READERS))

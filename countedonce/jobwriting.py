@@ -3,9 +3,9 @@
 from countedonce.expressions import expression_text
 
 
-def table_line(name, columns):
-    """The line of a read."""
-    return "read " + name + "(" + ", ".join([column + " " + kind for column, kind in columns]) + ")"
+def table_head(name, columns):
+    """A table's name and its columns."""
+    return name + "(" + ", ".join([column + " " + kind for column, kind in columns]) + ")"
 
 
 def mapped_text(told, name):
@@ -67,7 +67,7 @@ def step_line(step):
     """The line of a step."""
     name, what, inputs, details = step
     if what == "read":
-        return table_line(name, details)
+        return "read " + table_head(name, details)
     rest_of = RESTS[what]
     return name + " = " + what + " " + ", ".join(inputs) + rest_of(details)
 

@@ -28,6 +28,13 @@ def run_end(text, at):
     return at
 
 
+def is_name(thing):
+    """Whether a thing is a name."""
+    if not isinstance(thing, str) or thing == "" or not is_letter(thing[0]):
+        return False
+    return run_end(thing, 0) == len(thing) and thing not in OWN_WORDS
+
+
 def is_number(run):
     """Whether a run of letters and figures is a number."""
     if run == "0":

@@ -90,6 +90,11 @@ def plan_of(job, cuts, pieces, is_ahead, hows=None):
         "answer": tuple(answer), "is sorted": whats[job[1]] == "sort", "needed": needed_of(draft, answer)}
 
 
+def phase_kinds(plan):
+    """The list of what the tasks of each phase do."""
+    return [phase[0] for phase in plan["phases"]]
+
+
 def tasks_of(plan):
     """The ascending list of all tasks, each behind those whose files it reads."""
     return sorted(plan["files"])

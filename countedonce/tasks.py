@@ -19,17 +19,20 @@ def block_rows(plan, blocks, file):
     return tuple(blocks[name][number])
 
 
+def rows_behind(plan, blocks, found, task):
+    """The tuple of the rows of a task's files, of those that it reads and are found, or of its block."""
+    reads = inputs_of(plan, task)
+    if not reads:
+        return tuple([block_rows(plan, blocks, file) for file in files_of(plan, task)])
+    return task_rows(plan, task, [found[source] for source in reads])
+
+
 def all_files(plan, blocks):
     """The dict of all files of a plan to their rows."""
     found = {}
     for task in tasks_of(plan):
-        files = files_of(plan, task)
-        reads = inputs_of(plan, task)
-        if not reads:
-            found[files[0]] = block_rows(plan, blocks, files[0])
-        else:
-            for file, rows in zip(files, task_rows(plan, task, [found[source] for source in reads])):
-                found[file] = rows
+        for file, rows in zip(files_of(plan, task), rows_behind(plan, blocks, found, task)):
+            found[file] = rows
     return found
 
 

@@ -1,4 +1,4 @@
-"""[35]: the interface's names and examples of the modules that stand, as the document tells them."""
+"""[35]: the interface's names and examples, and the first example of all, as the document tells them."""
 
 import ast
 import doctest
@@ -29,12 +29,25 @@ NAMES = {
     "machines": ("Machine",),
     "scheduling": ("places_told", "wanted_tasks", "ready_tasks", "lost_blocks", "orders_for"),
     "middle": ("Middle",),
+    "worlds": ("World", "played"),
+    "fair": (
+        "fair_round", "finish", "most_rounds", "most_worked", "missing_blocks", "wrong_files", "lasting_blocks"),
+    "again": ("answer_again", "changed_blocks", "hanging_tasks"),
+    "origins": ("origins_of", "are_origins"),
+    "audits": ("wrong_task", "audited", "files_in"),
+    "costs": (
+        "cuts_for", "longest_block", "rows_read", "rows_cut", "longest_way", "rounds_in_peace", "works_in_peace"),
+    "tabletexts": ("table_text", "table_by"),
+    "histories": ("history_text", "history_by"),
+    "reports": ("states_of", "progress", "plan_text", "answer_text", "world_text"),
+    "whole": ("world_by", "told_behind", "run_all"),
 }
 METHODS = {
     "Machine": {
         "fall": [], "burn": [], "rise": [], "whole": ["file"], "whole_files": [], "has_task": ["plan", "task"],
         "ready": [], "letter": ["plan", "told"], "step": ["plan", "torn"]},
     "Middle": {"begin": ["is_torn"], "fall": [], "letter": ["told"], "think": []},
+    "World": {"event": ["kind", "at", "more"], "worked": []},
 }
 
 PARAMETERS = {
@@ -54,6 +67,19 @@ PARAMETERS = {
     "most_in_piece": ["rows", "keys", "names", "hot", "pieces"], "Machine": ["number"], "places_told": ["told"],
     "wanted_tasks": ["plan", "places"], "ready_tasks": ["plan", "places"], "lost_blocks": ["plan", "places"],
     "orders_for": ["plan", "told", "ages", "patience"], "Middle": ["plan", "machines", "patience"],
+    "World": ["plan", "blocks", "machines", "copies", "patience"], "played": ["world", "events"],
+    "fair_round": ["world"], "finish": ["world"], "most_rounds": ["plan"], "most_worked": ["world"],
+    "missing_blocks": ["world"], "wrong_files": ["world"], "lasting_blocks": ["world"],
+    "answer_again": ["plan", "files", "old", "new"], "changed_blocks": ["plan", "old", "new"],
+    "hanging_tasks": ["plan", "changed"], "origins_of": ["job", "blocks", "row"],
+    "are_origins": ["job", "blocks", "row", "thing"], "wrong_task": ["plan", "blocks", "files"],
+    "audited": ["plan", "blocks", "files", "answer"], "files_in": ["world"], "cuts_for": ["data", "most"],
+    "longest_block": ["data", "cuts"], "rows_read": ["plan", "files"], "rows_cut": ["plan", "files"],
+    "longest_way": ["plan"], "rounds_in_peace": ["plan"], "works_in_peace": ["plan"],
+    "table_text": ["name", "columns", "rows"], "table_by": ["text"], "history_text": ["events"],
+    "history_by": ["text"], "states_of": ["world"], "progress": ["world"], "plan_text": ["plan"],
+    "answer_text": ["answer"], "world_text": ["world"], "world_by": ["job_text", "tables", "choice"],
+    "told_behind": ["world"], "run_all": ["job_text", "tables", "choice", "history"],
 }
 
 EXAMPLES = r"""
@@ -125,6 +151,51 @@ True
 >>> middle = Middle(plan, 2, 1)
 >>> middle.begin(True), middle.begin(False), middle.turn, middle.think(), middle.journal
 (None, None, (2, 0), [('tell', 0, (2, 1)), ('tell', 1, (2, 1))], [False, True])
+
+>>> world = played(World(plan, blocks, 3, 2, 1), [("begin", 0, 0), ("think", 0, 0), ("come", 0, 0), ("burn", 0, 0), ("stop", 0, 0), ("begin torn", 0, 0)])
+>>> world.worked(), len(world.letters), world.answers, world.middle.journal, world.machines[0].disk
+(0, 3, [], [True, False], {})
+
+>>> finish(world) <= most_rounds(plan), world.middle.answer, missing_blocks(world), wrong_files(world), len(lasting_blocks(world))
+(True, [('p', 2, 11), ('q', 2, 8)], (), [], 2)
+>>> gone = played(World(plan, blocks, 2, 1, 1), [("burn", 0, 0)])
+>>> finish(gone) > 0, gone.middle.answer, len(gone.middle.lost), gone.middle.lost == missing_blocks(gone)
+(True, None, 1, True)
+
+>>> new = {"a": [blocks["a"][0], ((7, "z"),)]}
+>>> answer_again(plan, files, blocks, new)[0], len(changed_blocks(plan, blocks, new)), answer_again(plan, files, blocks, blocks)
+([('p', 1, 2), ('q', 1, 5), ('z', 1, 7)], 1, ([('p', 2, 11), ('q', 2, 8)], 0))
+
+>>> origins_of(job, blocks, ("p", 2, 11)), are_origins(job, blocks, ("p", 2, 11), (("a", 0),))
+((('a', 0), ('a', 1)), False)
+
+>>> fresh = World(plan, blocks, 3, 2, 1)
+>>> rounds = finish(fresh)
+>>> audited(plan, blocks, files, meaning(job, data)), wrong_task(plan, blocks, {}) == needed_tasks(plan)[0], rounds > 0 and audited(plan, blocks, files_in(fresh), fresh.middle.answer)
+(True, True, True)
+
+>>> cuts_for(data, 2), longest_block(data, {"a": 3}), rounds_in_peace(plan) == 2 * longest_way(plan) + 3
+({'a': 3}, 2, True)
+
+>>> table_by("a(x int, t text)  # two\n1, \"p\"\n-2, \"q, r\""), table_by(table_text("a", (("x", "int"),), [(4,)]))
+(('a', (('x', 'int'), ('t', 'text')), [(1, 'p'), (-2, 'q, r')]), ('a', (('x', 'int'),), [(4,)]))
+
+>>> history_by("begin torn\ncome 3\ntear 2 1"), history_text([("think", 0, 0), ("fall", 5, 0)])
+([('begin torn', 0, 0), ('come', 3, 0), ('tear', 2, 1)], 'think\nfall 5')
+
+>>> progress(World(plan, blocks, 3, 2, 1))[1:], rounds > 0, sorted(set(states_of(fresh).values()))
+((2, 0), True, ['done'])
+
+>>> table = table_text("a", (("x", "int"), ("t", "text")), data["a"])
+>>> run_all(text, [table], ({"a": 2}, 2, True, True, 3, 2, 1, {}), "begin\nthink\ncome 0\nfall 1\nstop")
+(('answer', (('p', 2, 11), ('q', 2, 8))), ((('p', 2, 11), ('q', 2, 8)),))
+
+>>> from countedonce.tabletexts import table_text
+>>> from countedonce.whole import run_all
+>>> job = "read eaten(who text, cakes int)\nsums = fold eaten by who: sum(cakes) as many\nanswer sums"
+>>> table = table_text("eaten", (("who", "text"), ("cakes", "int")), [("ann", 2), ("bo", 1), ("ann", 3), ("bo", 0)])
+>>> run_all(job, [table], ({"eaten": 2}, 2, True, True, 3, 2, 1, {}), "begin\nthink\ncome 0\nfall 1\nstop")[0]
+('answer', (('ann', 5), ('bo', 1)))
 """
 
 
@@ -137,7 +208,7 @@ class Interface(unittest.TestCase):
         known = {name: getattr(module(file), name) for file, names in NAMES.items() for name in names}
         test = doctest.DocTestParser().get_doctest(EXAMPLES, known, "DOC.md", None, 0)
         result = doctest.DocTestRunner(verbose=False).run(test)
-        self.assertEqual((result.failed, result.attempted), (0, 33))
+        self.assertEqual((result.failed, result.attempted), (0, 55))
 
     def test_each_name_is_defined_in_its_file(self):
         for file, names in NAMES.items():
